@@ -1,0 +1,219 @@
+"""The rules of the language that can be seen in the files, and where the interface stands.
+
+The number of the rule stands behind each test's name.
+"""
+
+import ast
+import re
+import unittest
+from pathlib import Path
+
+PACKAGE = Path(__file__).resolve().parent.parent / "thirtycubes"
+FILES = sorted(PACKAGE.glob("*.py"))
+
+BUILTINS = set(
+    "len range enumerate zip min max sum abs sorted reversed int str bool bytes list tuple dict set frozenset isinstance"
+    " ord repr any all divmod iter next super object Exception ValueError TypeError KeyError IndexError LookupError"
+    " ZeroDivisionError ArithmeticError OverflowError RuntimeError NotImplementedError AttributeError StopIteration"
+    " NotImplemented property staticmethod classmethod".split()
+)
+PYTHONS_OWN = set(dir(__builtins__) if not isinstance(__builtins__, dict) else __builtins__)
+BARRED_WORDS = set(
+    "type typing typing_extensions enum Enum IntEnum StrEnum Flag IntFlag Generic Protocol ABC ABCMeta namedtuple"
+    " NamedTuple TypedDict TYPE_CHECKING abstractmethod".split()
+)
+BARRED_NAMES = set("register mro elements open input law version_info with_traceback add_note format format_map".split())
+METHODS = set(
+    "append clear copy count endswith extend find get index insert isalnum isalpha isdigit islower isspace isupper items"
+    " join keys ljust lower lstrip partition pop remove replace reverse rfind rjust rpartition rsplit rstrip setdefault"
+    " split splitlines startswith strip update upper values zfill bit_length title capitalize swapcase casefold center"
+    " expandtabs removeprefix removesuffix rindex isascii isdecimal isnumeric istitle isidentifier isprintable translate"
+    " maketrans add discard encode decode hex".split()
+)
+DOUBLE = set("__init__ __eq__ __repr__ __str__ __len__".split())
+STATEMENTS = (
+    ast.FunctionDef, ast.ClassDef, ast.Assign, ast.AugAssign, ast.AnnAssign, ast.If, ast.While, ast.For, ast.Return,
+    ast.Break, ast.Continue, ast.Pass, ast.Raise, ast.Assert, ast.Delete, ast.Nonlocal, ast.Match, ast.With, ast.Try,
+    ast.Expr, ast.ImportFrom,
+)
+
+INTERFACE = {
+    "errors": (
+        "CubeError NoTurn NoWord NoPaints NoPalette NoCounts NoNumber NoFit NoCubes NoSix NoCube NoChange NoStock NoRow"
+        " NoName TooMany NoPlace NoBack NoBase NoPaper NoText"
+    ),
+    "turns": "is_turn turns put_together turned_back times_of turn_of word_of",
+    "paints": "is_paints turned least_paints mirrored leaving looks",
+    "cubes": "Cube",
+}
+CLASS_METHODS = {("cubes", "Cube"): "paints turned mirrored __eq__ __len__ __str__ __repr__"}
+
+
+def trees():
+    return {path.stem: ast.parse(path.read_text()) for path in FILES}
+
+
+def nodes(kind):
+    """Every node of a kind, with its file's name."""
+    return [(stem, node) for stem, tree in trees().items() for node in ast.walk(tree) if isinstance(node, kind)]
+
+
+def bound_names():
+    """Every name that the package gives: functions, classes, parameters, targets, attributes."""
+    found = [(stem, node.name) for stem, node in nodes((ast.FunctionDef, ast.ClassDef))]
+    found += [(stem, node.arg) for stem, node in nodes(ast.arg)]
+    found += [(stem, node.id) for stem, node in nodes(ast.Name) if isinstance(node.ctx, ast.Store)]
+    found += [(stem, node.attr) for stem, node in nodes(ast.Attribute)]
+    return found
+
+
+def own_methods():
+    return {
+        row.name
+        for stem, node in nodes(ast.ClassDef)
+        for row in node.body
+        if isinstance(row, ast.FunctionDef)
+    }
+
+
+def imports_of(tree):
+    return [node.module.split(".")[-1] for node in tree.body if isinstance(node, ast.ImportFrom)]
+
+
+class Files(unittest.TestCase):
+    def test_folder_L1_L14(self):
+        self.assertIn(PACKAGE / "__init__.py", FILES)
+        for path in PACKAGE.iterdir():
+            if path.name != "__pycache__":
+                self.assertRegex(path.name, r"^([a-z][a-z0-9_]*|__init__)\.py$")
+
+    def test_no_test_stands_in_the_package(self):
+        for path in FILES:
+            self.assertFalse(path.name.startswith("test"))
+
+    def test_characters_and_sizes_L10_L14(self):
+        for path in FILES:
+            text = path.read_bytes().decode("ascii")
+            self.assertRegex(text, r"\A[ -~\n]*\Z", path.name)
+            rows = text.split("\n")
+            self.assertLessEqual(len(rows), 399, path.name)
+            self.assertLessEqual(max(len(row) for row in rows), 120, path.name)
+        for stem, node in nodes(ast.FunctionDef):
+            self.assertLessEqual(node.end_lineno - node.lineno + 1, 40, (stem, node.name))
+
+    def test_barred_words_L17(self):
+        for path in FILES:
+            text = path.read_text()
+            self.assertEqual(set(re.findall(r"\w+", text)) & BARRED_WORDS, set(), path.name)
+            self.assertNotRegex(text, "dataclass|overload|contextmanager", path.name)
+
+
+class Modules(unittest.TestCase):
+    def test_imports_L2_L16(self):
+        for stem, node in nodes(ast.ImportFrom):
+            self.assertEqual(node.level, 0, stem)
+            self.assertRegex(node.module, r"^thirtycubes\.[a-z_]+$", stem)
+            defined = {
+                name.id if isinstance(name, ast.Name) else name.name
+                for row in trees()[node.module.split(".")[1]].body
+                for name in (row.targets if isinstance(row, ast.Assign) else [row])
+                if isinstance(name, (ast.Name, ast.FunctionDef, ast.ClassDef))
+            }
+            for alias in node.names:
+                self.assertIn(alias.name, defined, stem)
+
+    def test_imports_go_one_way_L16(self):
+        left = {stem: set(imports_of(tree)) for stem, tree in trees().items()}
+        while left:
+            free = [stem for stem in left if not left[stem] & set(left)]
+            self.assertTrue(free, f"import one another: {sorted(left)}")
+            for stem in free:
+                del left[stem]
+
+    def test_module_level_L3_L15(self):
+        for stem, tree in trees().items():
+            names = []
+            for place, row in enumerate(tree.body):
+                if isinstance(row, ast.Expr):
+                    self.assertEqual(place, 0, stem)
+                    self.assertIsInstance(ast.literal_eval(row.value), str)
+                elif isinstance(row, ast.Assign):
+                    self.assertEqual(len(row.targets), 1, stem)
+                    self.assertIsInstance(row.targets[0], ast.Name, stem)
+                    names.append(row.targets[0].id)
+                    ast.literal_eval(row.value)
+                elif isinstance(row, ast.ImportFrom):
+                    names += [alias.asname or alias.name for alias in row.names]
+                else:
+                    self.assertIsInstance(row, (ast.FunctionDef, ast.ClassDef), stem)
+                    names.append(row.name)
+            self.assertEqual(len(names), len(set(names)), stem)
+
+    def test_statements_L4_L6(self):
+        for stem, node in nodes(ast.stmt):
+            self.assertIsInstance(node, STATEMENTS, (stem, node.lineno))
+        for stem, node in nodes((ast.FunctionDef, ast.ClassDef)):
+            self.assertEqual(node.decorator_list, [], (stem, node.name))
+        for stem, node in nodes(ast.FunctionDef):
+            self.assertEqual(node.args.posonlyargs, [], (stem, node.name))
+
+
+class Expressions(unittest.TestCase):
+    def test_no_fractions_L7(self):
+        for stem, node in nodes((ast.BinOp, ast.AugAssign)):
+            self.assertNotIsInstance(node.op, ast.Div, (stem, node.lineno))
+        for stem, node in nodes(ast.Constant):
+            self.assertNotIsInstance(node.value, (float, complex), (stem, node.lineno))
+
+    def test_no_generator_expressions_beside_eq_L7(self):
+        self.assertEqual(nodes(ast.GeneratorExp), [])
+
+    def test_texts_L27(self):
+        for stem, node in nodes(ast.Constant):
+            if isinstance(node.value, str):
+                self.assertNotIn("%", node.value, (stem, node.lineno))
+
+    def test_builtins_L8(self):
+        for stem, node in nodes(ast.Name):
+            if node.id in PYTHONS_OWN:
+                self.assertIn(node.id, BUILTINS, (stem, node.lineno))
+                self.assertIsInstance(node.ctx, ast.Load, (stem, node.lineno))
+
+    def test_names_L12_L15_L17(self):
+        for stem, name in bound_names():
+            self.assertNotIn(name, BARRED_NAMES, stem)
+            if name not in DOUBLE:
+                self.assertRegex(name, r"^[A-Za-z][A-Za-z0-9_]*$", stem)
+        for stem, node in nodes((ast.FunctionDef, ast.ClassDef, ast.arg)):
+            name = node.arg if isinstance(node, ast.arg) else node.name
+            self.assertNotIn(name, PYTHONS_OWN, stem)
+
+    def test_methods_of_builtin_values_L25(self):
+        for stem, node in nodes(ast.Call):
+            if isinstance(node.func, ast.Attribute) and node.func.attr not in own_methods():
+                self.assertIn(node.func.attr, METHODS, (stem, node.lineno))
+                self.assertEqual(node.keywords, [], (stem, node.lineno))
+
+    def test_is_L20(self):
+        for stem, node in nodes(ast.Compare):
+            for sign, right in zip(node.ops, node.comparators):
+                if isinstance(sign, (ast.Is, ast.IsNot)):
+                    self.assertIsInstance(right, ast.Constant, (stem, node.lineno))
+                    self.assertIn(right.value, (None, True, False), (stem, node.lineno))
+
+    def test_no_name_is_a_method_and_an_attribute_L18(self):
+        stored = {node.attr for stem, node in nodes(ast.Attribute) if isinstance(node.ctx, ast.Store)}
+        self.assertEqual(stored & own_methods(), set())
+
+
+class Interface(unittest.TestCase):
+    def test_each_name_is_defined_in_its_file(self):
+        for stem, names in INTERFACE.items():
+            defined = {row.name for row in trees()[stem].body if isinstance(row, (ast.FunctionDef, ast.ClassDef))}
+            self.assertEqual(set(names.split()) - defined, set(), stem)
+
+    def test_each_method_is_defined_in_its_class(self):
+        for (stem, name), names in CLASS_METHODS.items():
+            body = [row for row in trees()[stem].body if isinstance(row, ast.ClassDef) and row.name == name][0].body
+            defined = {row.name for row in body if isinstance(row, ast.FunctionDef)}
+            self.assertEqual(set(names.split()) - defined, set(), name)

@@ -1,0 +1,1 @@
+"""Thirtycubes: cubes with painted sides, alike by turning."""
