@@ -4,7 +4,10 @@ Nothing here asks the program, so that what it tells is held against
 something else.
 """
 
+import copy
+from contextlib import contextmanager
 from itertools import permutations, product
+from time import perf_counter
 
 # The side's own direction, as (left to right, ahead to behind, beneath to above).
 DIRECTIONS = (
@@ -122,3 +125,75 @@ def some_paints():
         (GREAT,) * 6, (GREAT, 0, GREAT - 1, 1, GREAT - 2, 2), (7, GREAT, 7, GREAT, 7, GREAT),
     ]
     return few + own
+
+
+def lists_in(thing):
+    """Every list in a thing, as often as it stands there, the thing itself too."""
+    found = [thing] if isinstance(thing, list) else []
+    if isinstance(thing, (list, tuple)):
+        for part in thing:
+            found += lists_in(part)
+    return found
+
+
+def spoil(thing):
+    """Change every list in a thing."""
+    for part in lists_in(thing):
+        part.reverse()
+        part.append("more")
+
+
+def check_own(case, asked):
+    """What is asked tells the same again, in new lists at one place each, whatever was done to the first."""
+    first = asked()
+    kept = copy.deepcopy(first)
+    second = asked()
+    case.assertEqual(second, kept)
+    places = lists_in(first) + lists_in(second)
+    case.assertEqual(len({id(part) for part in places}), len(places))
+    spoil(first)
+    case.assertEqual(second, kept)
+    case.assertEqual(asked(), kept)
+
+
+def check_left(case, asked, *things):
+    """What is handed in stays as it is, of the same kinds all the way down."""
+    before = repr(things)
+    try:
+        asked(*things)
+    except ValueError:
+        pass
+    case.assertEqual(repr(things), before)
+
+
+@contextmanager
+def soon(case, seconds=10):
+    """Far more than is wanted, and far less than a slow way would take."""
+    begun = perf_counter()
+    yield
+    case.assertLess(perf_counter() - begun, seconds)
+
+
+def chances(seed):
+    """Numbers that look like chance and are the same each time: draw(many) is less than many."""
+    state = [seed]
+
+    def draw(many):
+        state[0] = (state[0] * 6364136223846793005 + 1442695040888963407) % 2 ** 64
+        return (state[0] >> 33) % many
+
+    return draw
+
+
+def drawn_cubes(draw, many, palette):
+    return [tuple(draw(palette) for side in range(6)) for number in range(many)]
+
+
+def no_cubes(most):
+    """Things that are no list of one to so many paints."""
+    right = (0, 0, 0, 0, 0, 0)
+    lists = [[], [right] * (most + 1), [right] * (most + 2), (right,), (right, right), right, list(right), [list(right)]]
+    inner = [[thing] for thing in no_paints()]
+    inner += [[right, thing] for thing in no_paints()] + [[thing, right] for thing in no_paints()]
+    # One of those things are the paints of one cube, in a list.
+    return [thing for thing in anything() if thing != [(0, 1, 2, 3, 4, 5)]] + lists + inner

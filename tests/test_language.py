@@ -45,6 +45,30 @@ INTERFACE = {
     "turns": "is_turn turns put_together turned_back times_of turn_of word_of",
     "paints": "is_paints turned least_paints mirrored leaving looks",
     "cubes": "Cube",
+    "alike": "pairs_of hand_of alike_judged alike",
+    "counts": "how_many how_many_with all_cubes number_of cube_of",
+    "rows": "row_judged row_of",
+    "towers": "tower_judged tower",
+}
+# The arguments as the interface writes them.
+ARGUMENTS = {
+    "turns": {
+        "is_turn": "thing", "turns": "", "put_together": "one, other", "turned_back": "turn", "turn_of": "word",
+        "times_of": "turn", "word_of": "turn",
+    },
+    "paints": {
+        "is_paints": "thing", "turned": "paints, turn", "least_paints": "paints", "mirrored": "paints",
+        "leaving": "paints", "looks": "paints",
+    },
+    "alike": {
+        "pairs_of": "paints", "hand_of": "paints", "alike_judged": "one, other, paper", "alike": "one, other",
+    },
+    "counts": {
+        "how_many": "palette=6", "how_many_with": "counts", "all_cubes": "palette=2", "number_of": "palette, paints",
+        "cube_of": "palette, number",
+    },
+    "rows": {"row_judged": "cubes, thing, ring=False", "row_of": "cubes, ring=False"},
+    "towers": {"tower_judged": "cubes, paper", "tower": "cubes"},
 }
 CLASS_METHODS = {("cubes", "Cube"): "paints turned mirrored __eq__ __len__ __str__ __repr__"}
 
@@ -74,6 +98,18 @@ def own_methods():
         for row in node.body
         if isinstance(row, ast.FunctionDef)
     }
+
+
+def parents_of_files():
+    """For each file its name, and for every node but the outermost the one above it."""
+    return [
+        (stem, {child: node for node in ast.walk(tree) for child in ast.iter_child_nodes(node)})
+        for stem, tree in trees().items()
+    ]
+
+
+def is_call(node, names):
+    return isinstance(node, ast.Call) and isinstance(node.func, ast.Name) and node.func.id in names
 
 
 def imports_of(tree):
@@ -206,7 +242,67 @@ class Expressions(unittest.TestCase):
         self.assertEqual(stored & own_methods(), set())
 
 
+class SetsAndNames(unittest.TestCase):
+    def test_a_set_stands_where_it_may_L24(self):
+        for stem, parents in parents_of_files():
+            for node in parents:
+                if is_call(node, ("set",)) or isinstance(node, (ast.Set, ast.SetComp)):
+                    above = parents[node]
+                    fine = is_call(above, ("len", "sorted")) or isinstance(above, (ast.Compare, ast.Assign))
+                    self.assertTrue(fine, (stem, node.lineno))
+
+    def test_a_stored_set_is_used_as_it_may_L24(self):
+        for stem, parents in parents_of_files():
+            for node in parents:
+                if isinstance(node, ast.FunctionDef):
+                    self.check_stored_sets(stem, node, parents)
+
+    def check_stored_sets(self, stem, function, parents):
+        kept = [
+            row.targets[0].id for row in ast.walk(function)
+            if isinstance(row, ast.Assign) and (is_call(row.value, ("set",)) or isinstance(row.value, (ast.Set, ast.SetComp)))
+        ]
+        names = [node for node in ast.walk(function) if isinstance(node, ast.Name) and node.id in kept]
+        for name in names:
+            above = parents[name]
+            method = isinstance(above, ast.Attribute) and above.attr in ("add", "discard")
+            asked = isinstance(above, ast.Compare) or is_call(above, ("len", "sorted"))
+            self.assertTrue(method or asked or isinstance(name.ctx, ast.Store), (stem, name.lineno))
+        stored = [name.id for name in names if isinstance(name.ctx, ast.Store)]
+        self.assertEqual(len(stored), len(set(stored)), (stem, function.name))
+
+    def test_iterated_at_once_L23(self):
+        heads = ("list", "tuple", "dict", "sorted", "sum", "any", "all", "enumerate", "zip", "min", "max", "len")
+        for stem, parents in parents_of_files():
+            for node in parents:
+                views = isinstance(node, ast.Attribute) and node.attr in ("items", "keys", "values")
+                call = parents[node] if views else node
+                if views or is_call(node, ("zip", "enumerate", "reversed", "range")):
+                    above = parents[call]
+                    looped = isinstance(above, (ast.For, ast.comprehension)) and above.iter == call
+                    self.assertTrue(looped or is_call(above, heads), (stem, node.lineno))
+
+    def test_no_local_name_is_an_import_L15(self):
+        for stem, tree in trees().items():
+            imported = {alias.asname or alias.name for row in tree.body if isinstance(row, ast.ImportFrom) for alias in row.names}
+            local = {node.arg for node in ast.walk(tree) if isinstance(node, ast.arg)}
+            local |= {node.id for node in ast.walk(tree) if isinstance(node, ast.Name) and isinstance(node.ctx, ast.Store)}
+            self.assertEqual(imported & local, set(), stem)
+
+    def test_no_local_name_is_pythons_own_L15(self):
+        for stem, node in nodes(ast.Name):
+            if isinstance(node.ctx, ast.Store):
+                self.assertNotIn(node.id, PYTHONS_OWN, (stem, node.lineno))
+
+
 class Interface(unittest.TestCase):
+    def test_arguments_and_defaults(self):
+        for stem, functions in ARGUMENTS.items():
+            self.assertEqual(set(functions), set(INTERFACE[stem].split()), stem)
+            for row in trees()[stem].body:
+                if isinstance(row, ast.FunctionDef) and row.name in functions:
+                    self.assertEqual(ast.unparse(row.args), functions[row.name], row.name)
+
     def test_each_name_is_defined_in_its_file(self):
         for stem, names in INTERFACE.items():
             defined = {row.name for row in trees()[stem].body if isinstance(row, (ast.FunctionDef, ast.ClassDef))}

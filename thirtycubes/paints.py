@@ -16,6 +16,13 @@ def check_paints(paints):
         raise NoPaints("not six paints")
 
 
+def are_many_paints(thing, most):
+    """Tell of anything whether it is a list of the paints of one to so many cubes."""
+    if not isinstance(thing, list) or not 1 <= len(thing) <= most:
+        return False
+    return all([is_paints(part) for part in thing])
+
+
 def look(paints, turn):
     """Turn right paints by a right turn."""
     shown = [0] * 6

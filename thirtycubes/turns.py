@@ -5,6 +5,13 @@ from thirtycubes.whole import are_six_whole
 
 STILL = (0, 1, 2, 3, 4, 5)
 
+AHEAD = 2
+LEFT = 4
+RIGHT = 5
+
+# The opposite sides.
+AXES = ((0, 1), (2, 3), (4, 5))
+
 QUARTERS = {
     "u": (0, 1, 4, 5, 3, 2),
     "f": (5, 4, 2, 3, 0, 1),
