@@ -47,6 +47,24 @@ def slow_turns():
 TURNS = slow_turns()
 
 
+QUARTERS = {"u": (0, 1, 4, 5, 3, 2), "f": (5, 4, 2, 3, 0, 1), "r": (2, 3, 1, 0, 4, 5)}
+
+
+def slow_turn(word):
+    """Follow each side on its own through the quarters of a word."""
+    ends = []
+    for side in range(6):
+        for letter in word:
+            side = QUARTERS[letter][side]
+        ends.append(side)
+    return tuple(ends)
+
+
+def short_words():
+    """Words long enough for every turn, the shorter ones first, of like lengths the least."""
+    return ["".join(letters) for length in range(5) for letters in product("fru", repeat=length)]
+
+
 def slow_turned(paints, turn):
     """By a dict from each side to the paint that comes to it."""
     at = {turn[side]: paints[side] for side in range(6)}
@@ -55,6 +73,34 @@ def slow_turned(paints, turn):
 
 def slow_looks(paints):
     return [slow_turned(paints, turn) for turn in TURNS]
+
+
+def slow_mirrored(paints):
+    return paints[:4] + (paints[5], paints[4])
+
+
+def cross_of(sides):
+    """Whether three sides meet at a corner: 1 or -1, by how they go round it, else 0."""
+    return determinant([DIRECTIONS[side] for side in sides])
+
+
+# Three sides of each corner, from each of them on, that go round as 0, 2 and 4 do.
+MEETING = [sides for sides in permutations(range(6), 3) if cross_of(sides) == cross_of((0, 2, 4))]
+
+
+def slow_corners(paints):
+    """Each corner once, by the directions of its sides, from its least place on."""
+    rounds = {tuple(sorted(sides)): sides for sides in MEETING}
+    found = []
+    for sides in rounds.values():
+        seen = [paints[side] for side in sides]
+        found.append(min(tuple(seen[place:] + seen[:place]) for place in range(3)))
+    return sorted(found)
+
+
+def slow_thirty(six):
+    """The least looks of all orders of the six."""
+    return sorted({min(slow_looks(paints)) for paints in permutations(six)})
 
 
 def nested(depth):

@@ -11,10 +11,6 @@ STILL = (0, 1, 2, 3, 4, 5)
 G = helper.GREAT
 
 
-def slow_mirrored(paints):
-    return paints[:4] + (paints[5], paints[4])
-
-
 def slow_pairs(paints):
     return sorted(tuple(sorted(paints[place:place + 2])) for place in (0, 2, 4))
 
@@ -54,7 +50,7 @@ def some_pairs():
     found = []
     for paints in helper.some_paints()[::3] + [SIX, (0, 1, 0, 2, 1, 2), (3, 4, 4, 3, 5, 6), (0, 1, 0, 1, 2, 3)]:
         found += [(paints, helper.slow_turned(paints, turn)) for turn in helper.TURNS[::7]]
-        found.append((paints, helper.slow_turned(slow_mirrored(paints), helper.TURNS[10])))
+        found.append((paints, helper.slow_turned(helper.slow_mirrored(paints), helper.TURNS[10])))
         found.append((paints, paints[:5] + (paints[5] + 1,)))
         found.append((paints, (paints[2], paints[1], paints[0]) + paints[3:]))
     found.append(((G, G - 1, 0, 1, 2, 3), (G - 1, G, 0, 1, 2, 3)))
@@ -122,7 +118,7 @@ class Hand(unittest.TestCase):
             hand = hand_of(paints)
             for look in helper.slow_looks(paints):
                 self.assertEqual(hand_of(look), hand)
-                self.assertEqual(hand_of(slow_mirrored(look)), None if hand is None else 1 - hand)
+                self.assertEqual(hand_of(helper.slow_mirrored(look)), None if hand is None else 1 - hand)
 
 
 class Judged(unittest.TestCase):
@@ -142,7 +138,7 @@ class Judged(unittest.TestCase):
         ]
         for paper in wrong:
             self.check(SIX, SIX, paper, ("paper",))
-            self.check(SIX, slow_mirrored(SIX), paper, ("paper",))
+            self.check(SIX, helper.slow_mirrored(SIX), paper, ("paper",))
 
     def test_what_is_no_turn(self):
         for thing in helper.no_turns():
@@ -212,10 +208,10 @@ class Judged(unittest.TestCase):
         self.check((0, 1, 0, 1, 2, 3), (0, 1, 0, 1, 3, 2), ("twin",), ("hands",))
 
     def test_twins(self):
-        self.check(SIX, slow_mirrored(SIX), ("twin",), None)
-        self.check(slow_mirrored(SIX), SIX, ("twin",), None)
+        self.check(SIX, helper.slow_mirrored(SIX), ("twin",), None)
+        self.check(helper.slow_mirrored(SIX), SIX, ("twin",), None)
         self.check((0, 1, 0, 2, 1, 2), (0, 1, 0, 2, 2, 1), ("twin",), None)
-        for look in helper.slow_looks(slow_mirrored(SIX)):
+        for look in helper.slow_looks(helper.slow_mirrored(SIX)):
             self.check(SIX, look, ("twin",), None)
 
     def test_papers_up_to_sixteen_within_one_another(self):
@@ -249,7 +245,7 @@ class Alike(unittest.TestCase):
 
     def test_of_some(self):
         self.assertEqual(alike(SIX, (10, 11, 15, 14, 12, 13)), ("turn", U))
-        self.assertEqual(alike(SIX, slow_mirrored(SIX)), ("twin",))
+        self.assertEqual(alike(SIX, helper.slow_mirrored(SIX)), ("twin",))
         self.assertEqual(alike((0, 0, 0, 0, 0, 0), (1, 1, 1, 1, 1, 1))[0], "pair")
         self.assertEqual(alike((0, 0, 1, 1, 0, 1), (0, 1, 0, 1, 0, 1))[0], "pair")
 
@@ -267,7 +263,7 @@ class Alike(unittest.TestCase):
     def test_of_thirty_figures(self):
         one = (G, G - 1, G - 2, G - 3, G - 4, G - 5)
         self.assertEqual(self.check_told(one, helper.slow_looks(one)[5])[0], "turn")
-        self.assertEqual(self.check_told(one, slow_mirrored(one)), ("twin",))
+        self.assertEqual(self.check_told(one, helper.slow_mirrored(one)), ("twin",))
         self.assertEqual(self.check_told(one, (G,) * 6)[0], "pair")
 
     def test_never_are_a_turn_and_a_bar_both_let_by(self):
@@ -281,9 +277,9 @@ class Alike(unittest.TestCase):
         for paints in list(product(range(4), repeat=6))[::5] + helper.some_paints() + [(0, 1, 0, 2, 1, 2)]:
             pairs = slow_pairs(paints)
             handed = len(set(pairs)) == 3 and all(low != high for low, high in pairs)
-            paper = alike(paints, slow_mirrored(paints))
+            paper = alike(paints, helper.slow_mirrored(paints))
             self.assertEqual(paper[0], "twin" if handed else "turn")
-            self.assertIsNone(alike_judged(paints, slow_mirrored(paints), paper))
+            self.assertIsNone(alike_judged(paints, helper.slow_mirrored(paints), paper))
 
 
 class Refused(unittest.TestCase):
@@ -320,10 +316,10 @@ class AsTold(unittest.TestCase):
         told = pairs_of(SIX)
         helper.spoil(told)
         self.assertEqual(hand_of(SIX), 1)
-        self.assertEqual(alike(SIX, slow_mirrored(SIX)), ("twin",))
+        self.assertEqual(alike(SIX, helper.slow_mirrored(SIX)), ("twin",))
 
     def test_by_place_and_by_name_alike(self):
-        other = slow_mirrored(SIX)
+        other = helper.slow_mirrored(SIX)
         self.assertEqual(pairs_of(paints=SIX), pairs_of(SIX))
         self.assertEqual(hand_of(paints=SIX), hand_of(SIX))
         self.assertEqual(alike(one=SIX, other=other), alike(SIX, other))

@@ -6,6 +6,7 @@ The number of the rule stands behind each test's name.
 import ast
 import re
 import unittest
+from functools import lru_cache
 from pathlib import Path
 
 PACKAGE = Path(__file__).resolve().parent.parent / "thirtycubes"
@@ -49,6 +50,12 @@ INTERFACE = {
     "counts": "how_many how_many_with all_cubes number_of cube_of",
     "rows": "row_judged row_of",
     "towers": "tower_judged tower",
+    "thirty": "are_six corners_of Thirty",
+    "blocks": "block_judged blocks eight_of",
+    "shelf": "Shelf",
+    "texts": (
+        "paints_text read_paints turn_text read_turn picture read_picture box_text read_box paper_text read_paper"
+    ),
 }
 # The arguments as the interface writes them.
 ARGUMENTS = {
@@ -69,10 +76,34 @@ ARGUMENTS = {
     },
     "rows": {"row_judged": "cubes, thing, ring=False", "row_of": "cubes, ring=False"},
     "towers": {"tower_judged": "cubes, paper", "tower": "cubes"},
+    "thirty": {"are_six": "thing", "corners_of": "paints"},
+    "blocks": {
+        "block_judged": "thirty, number, block, stock=None", "blocks": "thirty, number, stock=None",
+        "eight_of": "thirty, number",
+    },
+    "texts": {
+        "paints_text": "paints, base=10", "read_paints": "text, base=10", "turn_text": "turn", "read_turn": "text",
+        "picture": "paints", "read_picture": "text", "box_text": "cubes", "read_box": "text", "paper_text": "paper",
+        "read_paper": "text",
+    },
 }
-CLASS_METHODS = {("cubes", "Cube"): "paints turned mirrored __eq__ __len__ __str__ __repr__"}
+# The methods of each class, with their arguments as the interface writes them.
+CLASS_METHODS = {
+    ("cubes", "Cube"): {
+        "__init__": "self, paints=None", "paints": "self", "turned": "self, turn=None", "mirrored": "self",
+        "__eq__": "self, other", "__len__": "self", "__str__": "self", "__repr__": "self",
+    },
+    ("thirty", "Thirty"): {
+        "__init__": "self, six", "cubes": "self", "number": "self, paints", "twin": "self, number",
+        "shared": "self, number, other", "lots": "self", "table": "self", "is_table": "self, thing",
+        "place": "self, number", "changed": "self, number, change", "rows_changed": "self, change",
+        "__eq__": "self, other", "__len__": "self", "__str__": "self", "__repr__": "self",
+    },
+    ("shelf", "Shelf"): {"__init__": "self", "say": "self, row"},
+}
 
 
+@lru_cache
 def trees():
     return {path.stem: ast.parse(path.read_text()) for path in FILES}
 
@@ -98,6 +129,16 @@ def own_methods():
         for row in node.body
         if isinstance(row, ast.FunctionDef)
     }
+
+
+def module_lists():
+    """The names of all lists and dicts at module level."""
+    return [
+        row.targets[0].id
+        for tree in trees().values()
+        for row in tree.body
+        if isinstance(row, ast.Assign) and isinstance(row.value, (ast.List, ast.Dict))
+    ]
 
 
 def parents_of_files():
@@ -177,13 +218,24 @@ class Modules(unittest.TestCase):
                     self.assertEqual(len(row.targets), 1, stem)
                     self.assertIsInstance(row.targets[0], ast.Name, stem)
                     names.append(row.targets[0].id)
-                    ast.literal_eval(row.value)
+                    self.check_plain(stem, row.value, set(names))
                 elif isinstance(row, ast.ImportFrom):
                     names += [alias.asname or alias.name for alias in row.names]
                 else:
                     self.assertIsInstance(row, (ast.FunctionDef, ast.ClassDef), stem)
                     names.append(row.name)
             self.assertEqual(len(names), len(set(names)), stem)
+
+    def check_plain(self, stem, value, names):
+        """A plain value, with nothing of a name but functions above it, and no list or dict within another."""
+        if isinstance(value, ast.Name):
+            self.assertIn(value.id, names, stem)
+        elif isinstance(value, (ast.Tuple, ast.List, ast.Dict)):
+            for part in value.values + value.keys if isinstance(value, ast.Dict) else value.elts:
+                self.assertNotIsInstance(part, (ast.List, ast.Dict), (stem, value.lineno))
+                self.check_plain(stem, part, names)
+        else:
+            ast.literal_eval(value)
 
     def test_statements_L4_L6(self):
         for stem, node in nodes(ast.stmt):
@@ -242,6 +294,53 @@ class Expressions(unittest.TestCase):
         self.assertEqual(stored & own_methods(), set())
 
 
+    def test_each_attribute_that_is_read_is_assigned_L18(self):
+        stored = {node.attr for stem, node in nodes(ast.Attribute) if isinstance(node.ctx, ast.Store)}
+        for stem, node in nodes(ast.Attribute):
+            self.assertIn(node.attr, stored | own_methods() | METHODS, (stem, node.lineno))
+
+    def test_lists_and_dicts_of_a_module_are_only_read_L15(self):
+        for stem, parents in parents_of_files():
+            kept = set(module_lists())
+            for node in parents:
+                if isinstance(node, ast.Name) and node.id in kept and isinstance(node.ctx, ast.Load):
+                    above = parents[node]
+                    asked = isinstance(above, ast.Compare) or is_call(above, ("len", "list", "dict", "sorted", "tuple"))
+                    part = isinstance(above, ast.Subscript) and above.value == node and isinstance(above.ctx, ast.Load)
+                    got = isinstance(above, ast.Attribute) and above.attr in ("get", "items", "keys", "values", "index")
+                    looped = isinstance(above, (ast.For, ast.comprehension)) and above.iter == node
+                    self.assertTrue(asked or part or got or looped, (stem, node.lineno))
+
+    def test_only_names_and_attributes_are_called_L3(self):
+        for stem, node in nodes(ast.Call):
+            self.assertIsInstance(node.func, (ast.Name, ast.Attribute), (stem, node.lineno))
+
+    def test_behind_a_star_of_a_call_stand_names_L7(self):
+        for stem, node in nodes(ast.Call):
+            if any(isinstance(part, ast.Starred) for part in node.args):
+                for part in node.args:
+                    plain = part.value if isinstance(part, ast.Starred) else part
+                    self.assertIsInstance(plain, (ast.Name, ast.Attribute, ast.Constant), (stem, node.lineno))
+                self.assertEqual(node.keywords, [], (stem, node.lineno))
+
+    def test_errors_are_made_where_they_are_raised_and_own_ones_are_caught_L19(self):
+        own = set(INTERFACE["errors"].split())
+        for stem, node in nodes(ast.Raise):
+            self.assertTrue(is_call(node.exc, own), (stem, node.lineno))
+        for stem, node in nodes(ast.ExceptHandler):
+            self.assertIn(node.type.id, own, (stem, node.lineno))
+
+    def test_double_underscore_methods_L28(self):
+        for stem, node in nodes(ast.FunctionDef):
+            if node.name in ("__len__", "__str__", "__repr__", "__eq__"):
+                self.assertEqual([type(row) for row in node.body], [ast.Return], (stem, node.name))
+                told = node.body[0].value
+                if node.name == "__len__":
+                    self.assertTrue(is_call(told, ("len",)) or isinstance(told, ast.Constant), stem)
+                if node.name in ("__str__", "__repr__"):
+                    self.assertIsInstance(told, (ast.JoinedStr, ast.Call), stem)
+
+
 class SetsAndNames(unittest.TestCase):
     def test_a_set_stands_where_it_may_L24(self):
         for stem, parents in parents_of_files():
@@ -298,7 +397,8 @@ class SetsAndNames(unittest.TestCase):
 class Interface(unittest.TestCase):
     def test_arguments_and_defaults(self):
         for stem, functions in ARGUMENTS.items():
-            self.assertEqual(set(functions), set(INTERFACE[stem].split()), stem)
+            classes = {name for file, name in CLASS_METHODS if file == stem}
+            self.assertEqual(set(functions), set(INTERFACE[stem].split()) - classes, stem)
             for row in trees()[stem].body:
                 if isinstance(row, ast.FunctionDef) and row.name in functions:
                     self.assertEqual(ast.unparse(row.args), functions[row.name], row.name)
@@ -309,7 +409,7 @@ class Interface(unittest.TestCase):
             self.assertEqual(set(names.split()) - defined, set(), stem)
 
     def test_each_method_is_defined_in_its_class(self):
-        for (stem, name), names in CLASS_METHODS.items():
+        for (stem, name), methods in CLASS_METHODS.items():
             body = [row for row in trees()[stem].body if isinstance(row, ast.ClassDef) and row.name == name][0].body
-            defined = {row.name for row in body if isinstance(row, ast.FunctionDef)}
-            self.assertEqual(set(names.split()) - defined, set(), name)
+            defined = {row.name: ast.unparse(row.args) for row in body if isinstance(row, ast.FunctionDef)}
+            self.assertEqual({method: defined.get(method) for method in methods}, methods, name)

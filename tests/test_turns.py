@@ -10,17 +10,6 @@ STILL = (0, 1, 2, 3, 4, 5)
 U = (0, 1, 4, 5, 3, 2)
 F = (5, 4, 2, 3, 0, 1)
 R = (2, 3, 1, 0, 4, 5)
-QUARTERS = {"u": U, "f": F, "r": R}
-
-
-def slow_turn(word):
-    """Follow each side on its own through the quarters of a word."""
-    ends = []
-    for side in range(6):
-        for letter in word:
-            side = QUARTERS[letter][side]
-        ends.append(side)
-    return tuple(ends)
 
 
 class AllTurns(unittest.TestCase):
@@ -38,7 +27,7 @@ class AllTurns(unittest.TestCase):
     def test_they_are_all_that_quarters_make(self):
         made = {STILL}
         while True:
-            more = made | {tuple(quarter[side] for side in turn) for turn in made for quarter in QUARTERS.values()}
+            more = made | {tuple(quarter[side] for side in turn) for turn in made for quarter in helper.QUARTERS.values()}
             if more == made:
                 break
             made = more
@@ -170,7 +159,7 @@ class TurnOf(unittest.TestCase):
     def test_of_short_words(self):
         for letters in range(6):
             for word in product("ufr", repeat=letters):
-                self.assertEqual(turn_of("".join(word)), slow_turn(word))
+                self.assertEqual(turn_of("".join(word)), helper.slow_turn(word))
 
     def test_the_first_letter_is_done_first(self):
         self.assertEqual(turn_of("uf"), (5, 4, 0, 1, 3, 2))
@@ -178,7 +167,7 @@ class TurnOf(unittest.TestCase):
 
     def test_of_a_thousand_letters(self):
         for letters in ("u" * 1000, "f" * 999, "ur" * 500, "ufr" * 333 + "r", "uffrr" * 200):
-            self.assertEqual(turn_of(letters), slow_turn(letters))
+            self.assertEqual(turn_of(letters), helper.slow_turn(letters))
 
     def test_of_more_than_a_thousand_letters(self):
         for letters in ("u" * 1001, "uf" * 501, "r" * 1004, "f" * 5000):
@@ -211,7 +200,7 @@ class WordOf(unittest.TestCase):
         first = {}
         for letters in range(6):
             for word in sorted("".join(signs) for signs in product("ufr", repeat=letters)):
-                first.setdefault(slow_turn(word), word)
+                first.setdefault(helper.slow_turn(word), word)
         self.assertEqual(len(first), 24)
         for turn in helper.TURNS:
             self.assertEqual(word_of(turn), first[turn])

@@ -52,9 +52,14 @@ def turn_fault(one, other, turn):
     return None
 
 
+def is_pair(lesser, greater):
+    """Tell of any two things whether they are paints, the first no greater."""
+    return is_from_nought(lesser) and is_from_nought(greater) and lesser <= greater
+
+
 def pair_fault(one, other, lesser, greater):
     """Tell what is wrong with a pair that bars likeness, or None."""
-    if not is_from_nought(lesser) or not is_from_nought(greater) or lesser > greater:
+    if not is_pair(lesser, greater):
         return ("pair",)
     pair = (lesser, greater)
     if pairs_of(one).count(pair) == pairs_of(other).count(pair):

@@ -52,16 +52,20 @@ def is_case(thing):
     return thing[0] == "case" and isinstance(thing[1], list) and len(thing[1]) == len(CHOICES)
 
 
+def is_leaf(thing, paints):
+    """Tell of anything whether it is a more or a less by its form, with one of so many paints."""
+    if not isinstance(thing, tuple) or len(thing) != 3 or thing[0] not in ("more", "less"):
+        return False
+    lap, paint = thing[1:]
+    return is_from_nought(lap) and lap <= 1 and is_from_nought(paint) and paint < paints
+
+
 def is_right_leaf(cubes, chosen, thing):
     """Tell of anything whether it is a more or a less, by its form and its saying."""
-    if not isinstance(thing, tuple) or len(thing) != 3:
+    if not is_leaf(thing, len(cubes)):
         return False
     word, lap, paint = thing
-    if not is_from_nought(lap) or lap > 1 or not is_from_nought(paint) or paint >= len(cubes):
-        return False
-    if word == "more":
-        return is_more(cubes, chosen, lap, paint)
-    return word == "less" and is_less(cubes, chosen, lap, paint)
+    return is_more(cubes, chosen, lap, paint) if word == "more" else is_less(cubes, chosen, lap, paint)
 
 
 def tree_fault(cubes, tree, numbers):
@@ -76,9 +80,14 @@ def tree_fault(cubes, tree, numbers):
     return None if is_right_leaf(cubes, chosen, tree) else numbers
 
 
+def are_turns(thing):
+    """Tell of anything whether it is a list of turns."""
+    return isinstance(thing, list) and all([is_turn(part) for part in thing])
+
+
 def turns_fault(cubes, thing):
     """Tell what is wrong with the turns of a tower, or None."""
-    if not isinstance(thing, list) or len(thing) != len(cubes) or not all([is_turn(part) for part in thing]):
+    if not are_turns(thing) or len(thing) != len(cubes):
         return ("turns",)
     shown = [look(paints, turn) for paints, turn in zip(cubes, thing)]
     for side in LONG_SIDES:
